@@ -1,0 +1,1 @@
+"""Onewaytown: towns made one-way."""
