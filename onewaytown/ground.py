@@ -1,4 +1,4 @@
-"""What several files of the package need: numbers that are told apart, and places that are come to."""
+"""What several files of the package need: numbers that are told apart, and where walks lead."""
 
 
 def is_whole(thing, least, most):
@@ -8,18 +8,31 @@ def is_whole(thing, least, most):
     return type(thing) == int and least <= thing <= most
 
 
+def both_ways(streets):
+    """Tell the steps (street, from, to) along each street, the one way and the other."""
+    told = []
+    for street, one, other in streets:
+        told.append((street, one, other))
+        told.append((street, other, one))
+    return told
+
+
+def walks_from(steps, place):
+    """Tell a shortest walk by steps to each place that is come to, the nearest places first."""
+    walks = {place: []}
+    waiting = [place]
+    while waiting:
+        at = waiting.pop(0)
+        for step in steps:
+            if step[1] == at and step[2] not in walks:
+                walks[step[2]] = walks[at] + [step]
+                waiting.append(step[2])
+    return walks
+
+
 def come_to(streets, place):
     """Tell the places that are come to from a place along the streets, rising."""
-    found = {place: True}
-    grown = True
-    while grown:
-        grown = False
-        for _, one, other in streets:
-            if (one in found) != (other in found):
-                found[one] = True
-                found[other] = True
-                grown = True
-    return sorted(found)
+    return sorted(walks_from(both_ways(streets), place))
 
 
 def parts_along(many, streets):

@@ -45,6 +45,21 @@ NO_NUMBERS = [
     Poses(),
 ]
 
+# A list that holds itself.
+LOOPED = []
+LOOPED.append(LOOPED)
+
+# Things of other kinds than texts and lists of steps, some of them close to one.
+ANY_KIND = [
+    *NO_NUMBERS, 0, 1, -1, 7, 10 ** 30, "places", "0 1", b"places 1", bytearray(b"places 1"),
+    ["places 1"], ("places 1",), [[]], [()], [None], [True], [[0, 1]], [(0, 1)], ["010"],
+    [Fails()], [Poses()], LOOPED, {"places": 1}, {0: (0, 0, 1)}, iter([]), (row for row in []),
+    range(0), set(), frozenset(), memoryview(b""), lambda: [], Town, Town(1), ValueError("why"),
+]
+
+# Two rings that a street joins, one more street hanging off, and a place alone.
+MIXED = (8, (0, 1), (1, 2), (2, 0), (2, 3), (3, 4), (4, 5), (5, 3), (4, 6))
+
 
 def stand(town):
     """All that a town itself tells."""
@@ -144,3 +159,28 @@ def plain_ends(many, rows):
         if leading == 1:
             told.append((piece, 1))
     return told
+
+
+def plain_good(many, ways):
+    """Whether each place is come to from each, by making all leads that two steps make one."""
+    leads = [[at == to for to in range(many)] for at in range(many)]
+    for _, at, to in ways:
+        leads[at][to] = True
+    for by, at, to in product(range(many), repeat=3):
+        leads[at][to] = leads[at][to] or (leads[at][by] and leads[by][to])
+    return all(all(row) for row in leads)
+
+
+def plain_made_one_way(many, rows):
+    """Whether a town of such streets is one part that no street parts."""
+    return len(plain_parts(many, rows)) == 1 and not plain_parting(many, rows)
+
+
+def plain_wanted(many, rows):
+    return sum(wanted for _, wanted in plain_ends(many, rows))
+
+
+def turned(step):
+    """The same street walked the other way."""
+    street, one, other = step
+    return street, other, one

@@ -15,6 +15,11 @@ INTERFACE = {
                       "streets": ["self"]}},
     "walks": {"reached": ["town", "place"], "parts": ["town"]},
     "parting": {"parting": ["town"], "pieces": ["town"], "ends": ["town"]},
+    "handles": {"handles": ["town"]},
+    "oneway": {"one_way": ["town"], "is_one_way": ["town", "thing"],
+               "round_trip": ["town", "ways"]},
+    "building": {"fewest": ["town"]},
+    "notes": {"written": ["town"], "read": ["text"]},
 }
 
 

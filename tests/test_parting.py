@@ -5,11 +5,8 @@ import unittest
 from onewaytown.parting import ends, parting, pieces
 from onewaytown.town import Town
 from tests.samples import (
-    all_towns, full, made, path, plain_ends, plain_parting, plain_pieces, ring,
+    MIXED, all_towns, full, made, path, plain_ends, plain_parting, plain_pieces, ring,
 )
-
-# Two rings that a street joins, one more street hanging off, and a place alone.
-MIXED = (8, (0, 1), (1, 2), (2, 0), (2, 3), (3, 4), (4, 5), (5, 3), (4, 6))
 
 
 class Parting(unittest.TestCase):
