@@ -78,6 +78,13 @@ class Fewest(unittest.TestCase):
         self.check(made(16, (15, 0), (15, 4), (15, 8), (1, 2), (2, 3), (3, 1), (7, 5), (7, 6),
                         (7, 9), (7, 10), (7, 11), (12, 13), (13, 12)), 7)
 
+    def test_one_is_wanted_of_each_of_two_pieces(self):
+        self.check(path(2), 1)
+        self.check(made(5, (0, 1), (1, 2), (2, 0), (2, 3), (3, 4), (4, 3)), 1)
+        # One alone is never wanted: where a street parts, each side wants one or more.
+        for town in all_towns():
+            self.assertNotEqual(plain_wanted(town.places(), town.streets()), 1)
+
     def test_an_odd_number_is_wanted(self):
         self.check(made(4, (0, 1), (0, 2), (0, 3)), 2)
         self.check(made(5, (0, 1), (0, 2), (0, 3)), 3)
